@@ -1,0 +1,1 @@
+"""Amongalike: tables shown so that everybody is among so many alike."""

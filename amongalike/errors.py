@@ -1,0 +1,9 @@
+"""The refusals of the program."""
+
+
+class TableError(ValueError):
+    pass
+
+
+class NoText(TableError):
+    pass
