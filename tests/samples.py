@@ -106,3 +106,36 @@ def spoiled(thing):
             wrong += [str(part), (part,), [part], bool(part)]
         for other in wrong:
             yield with_part(thing, path, other)
+
+
+def stirred(seed):
+    """Numbers without an order that is plain to see, the same ones each time."""
+    state = seed
+    while True:
+        state = (state * 6364136223846793005 + 1442695040888963407) % 2 ** 64
+        yield state >> 33
+
+
+def made_table(seed, columns, rows):
+    """A table with so many columns and rows, the same one each time."""
+    numbers = stirred(seed * 1000 + columns * 100 + rows)
+    ladders = tuple(LADDERS[next(numbers) % len(LADDERS)] for _ in range(columns))
+    values = tuple(tuple(next(numbers) % len(ladder[0]) for ladder in ladders) for _ in range(rows))
+    return (ladders, values, tuple(next(numbers) % 4 for _ in range(rows)))
+
+
+def ways_of(table):
+    return list(product(*(range(len(ladder)) for ladder in table[0])))
+
+
+FOUR_ROWS = ((TWO, TWO), ((0, 0), (0, 1), (1, 0), (1, 1)), (0, 1, 2, 3))
+ONE_ROW = ((THREE, TWO), ((1, 1),), (2,))
+ALL_ALIKE = ((THREE, TWO), ((2, 1),) * 5, (0, 1, 0, 1, 2))
+NO_TWO_ALIKE = ((FIVE,), ((4,), (2,), (0,), (1,), (3,)), (0, 0, 1, 1, 1))
+ONE_VALUE = ((ONE, ONE), ((0, 0),) * 4, (3, 1, 3, 1))
+MANY_ROWS = made_table(5, 2, 30)
+MADE = [made_table(seed, columns, rows)
+        for seed in range(4) for columns in (1, 2, 3) for rows in (1, 2, 3, 5, 8)]
+# Tables for all functions that take tables of more than 8 rows, too.
+SHOWN_TABLES = TABLES + [FOUR_ROWS, ONE_ROW, ALL_ALIKE, NO_TWO_ALIKE, ONE_VALUE, MANY_ROWS] + MADE + [
+    made_table(seed, columns, rows) for seed in (7, 8) for columns in (1, 2, 3) for rows in (9, 12, 20)]

@@ -132,6 +132,56 @@ def faults(text):
     return found
 
 
+def top_names(tree):
+    """The names that a file defines at its top, those it draws from other files not among them."""
+    names = set()
+    for node in tree.body:
+        if isinstance(node, (ast.FunctionDef, ast.ClassDef)):
+            names.add(node.name)
+        elif isinstance(node, ast.Assign):
+            names |= {target.id for target in node.targets if isinstance(target, ast.Name)}
+    return names
+
+
+def drawn(tree):
+    """Each file from which a file draws, with the name drawn and its line."""
+    for node in tree.body:
+        if isinstance(node, ast.ImportFrom):
+            for alias in node.names:
+                yield node.module.removeprefix("amongalike."), alias.name, node.lineno
+
+
+def inner_names(tree):
+    """The parameters and locals of a file's functions, with their lines."""
+    for function in ast.walk(tree):
+        if isinstance(function, ast.FunctionDef):
+            for name, line in bound_names(function):
+                if name != function.name:
+                    yield name, line
+
+
+def faults_between(texts):
+    """The rules that files, told by their names, break by what they draw from one another."""
+    trees = {file: ast.parse(text) for file, text in texts.items()}
+    sources = {file: {source for source, name, line in drawn(tree)} for file, tree in trees.items()}
+    for file, tree in trees.items():
+        for source, name, line in drawn(tree):
+            if source not in trees or name not in top_names(trees[source]):
+                yield "L16", line
+        taken = {name for source, name, line in drawn(tree)} | top_names(tree)
+        for name, line in inner_names(tree):
+            if name in taken:
+                yield "L15", line
+        reached, growing = set(), list(sources[file])
+        while growing:
+            source = growing.pop()
+            if source not in reached:
+                reached.add(source)
+                growing += sources.get(source, ())
+        if file in reached:
+            yield "L16", 0
+
+
 class Language(unittest.TestCase):
     def test_the_package_holds_plainly_named_files_alone(self):
         names = sorted(path.name for path in PACKAGE.iterdir() if path.name != "__pycache__")
@@ -143,6 +193,22 @@ class Language(unittest.TestCase):
         for path in sorted(PACKAGE.glob("*.py")):
             with self.subTest(file=path.name):
                 self.assertEqual(faults(path.read_text(encoding="utf-8")), [])
+
+    def test_files_draw_from_one_another_by_the_rules(self):
+        texts = {path.stem: path.read_text(encoding="utf-8") for path in PACKAGE.glob("*.py")}
+        self.assertIn("least", texts)
+        self.assertEqual(list(faults_between(texts)), [])
+
+    def test_breaches_between_files_are_seen(self):
+        one = "def f():\n    pass"
+        for texts in ({"a": one, "b": "from amongalike.a import f", "c": "from amongalike.b import f"},
+                      {"a": "from amongalike.b import f"},
+                      {"a": "from amongalike.b import g\n" + one, "b": "from amongalike.a import f\ndef g():\n    f()"},
+                      {"a": one, "b": "from amongalike.a import f\ndef g(f):\n    pass"},
+                      {"a": one, "b": "from amongalike.a import f\ndef g():\n    f = 1"}):
+            with self.subTest(texts=texts):
+                self.assertNotEqual(list(faults_between(texts)), [])
+        self.assertEqual(list(faults_between({"a": one, "b": "from amongalike.a import f\ndef g():\n    f()"})), [])
 
     def test_breaches_are_seen(self):
         for text in ("half = 1 / 2", "x = 1.5", "x = y = 1", "import os", "from os import path", "x = 'caf\u00e9'",
