@@ -1,5 +1,6 @@
 """Ladders, tables and wrong things for the tests, made straight from the document's words."""
 
+from functools import lru_cache
 from itertools import product
 
 
@@ -128,6 +129,43 @@ def ways_of(table):
     return list(product(*(range(len(ladder)) for ladder in table[0])))
 
 
+@lru_cache(maxsize=None)
+def put_together(table, way, column, value):
+    """All values of a column with which a value is put together by a way."""
+    pairs = together(table[0][column][way[column]])
+    return [other for other in range(len(table[0][column][0])) if (value, other) in pairs]
+
+
+def rows_told(table, way):
+    return tuple(
+        tuple(min(put_together(table, way, column, value)) for column, value in enumerate(row))
+        for row in table[1])
+
+
+@lru_cache(maxsize=None)
+def classes_told(table, way):
+    rows = rows_told(table, way)
+    found = {tuple(other for other in range(len(rows)) if rows[other] == row) for row in rows}
+    return tuple(sorted(found))
+
+
+@lru_cache(maxsize=None)
+def loss_told(table, way):
+    lost = 0
+    for row in table[1]:
+        for column, value in enumerate(row):
+            lost += len(put_together(table, way, column, value)) - 1
+    return lost
+
+
+def first_way(table):
+    return (0,) * len(table[0])
+
+
+def last_way(table):
+    return tuple(len(ladder) - 1 for ladder in table[0])
+
+
 FOUR_ROWS = ((TWO, TWO), ((0, 0), (0, 1), (1, 0), (1, 1)), (0, 1, 2, 3))
 ONE_ROW = ((THREE, TWO), ((1, 1),), (2,))
 ALL_ALIKE = ((THREE, TWO), ((2, 1),) * 5, (0, 1, 0, 1, 2))
@@ -139,3 +177,12 @@ MADE = [made_table(seed, columns, rows)
 # Tables for all functions that take tables of more than 8 rows, too.
 SHOWN_TABLES = TABLES + [FOUR_ROWS, ONE_ROW, ALL_ALIKE, NO_TWO_ALIKE, ONE_VALUE, MANY_ROWS] + MADE + [
     made_table(seed, columns, rows) for seed in (7, 8) for columns in (1, 2, 3) for rows in (9, 12, 20)]
+
+
+def pairs_of_coarser():
+    """Each sample with each two ways, the first of which is coarser."""
+    for table in SHOWN_TABLES:
+        for other in ways_of(table):
+            for one in ways_of(table):
+                if one != other and all(mine >= its for mine, its in zip(one, other)):
+                    yield table, one, other

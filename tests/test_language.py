@@ -20,6 +20,7 @@ METHODS = set(
 WORDS = re.compile(
     r"\b(type|typing|typing_extensions|enum|Enum|IntEnum|StrEnum|Flag|IntFlag|Generic|Protocol|ABC|ABCMeta|"
     r"namedtuple|NamedTuple|TypedDict|TYPE_CHECKING|abstractmethod)\b|dataclass|overload|contextmanager")
+WALKS = ("zip", "enumerate", "reversed", "range", ".items", ".keys", ".values")
 TWO_UNDERSCORES = {"__init__", "__eq__", "__repr__", "__str__", "__len__"}
 NODES = set(
     "Module FunctionDef ClassDef Return Assign AugAssign For While If Raise Try ExceptHandler ImportFrom alias Expr "
@@ -123,10 +124,62 @@ def faults_of_statements(tree):
                 yield "L2 or L15", part.lineno
 
 
+def called(node):
+    """The name of Python's own that a node calls, or the method, with a dot ahead."""
+    if not isinstance(node, ast.Call):
+        return None
+    if isinstance(node.func, ast.Name):
+        return node.func.id
+    return "." + node.func.attr if isinstance(node.func, ast.Attribute) else None
+
+
+def is_walked(node, outer):
+    if isinstance(outer, (ast.For, ast.comprehension)):
+        return node is outer.iter
+    if called(outer) in ("min", "max", ".join"):
+        return [node] == outer.args
+    takers = ("list", "tuple", "dict", "sorted", "sum", "any", "all", "enumerate", "zip")
+    return called(outer) in takers and node is outer.args[0]
+
+
+def is_set_used(outer):
+    if isinstance(outer, (ast.Compare, ast.BinOp)):
+        return True
+    return called(outer) in ("sorted", "len") and not outer.keywords
+
+
+def faults_of_uses(tree):
+    """Walks and sets are not kept; keywords stand at a few of Python's own names alone."""
+    keywords = {"sorted": {"key", "reverse"}, "min": {"key", "default"}, "max": {"key", "default"},
+                "sum": {"start"}, "enumerate": {"start"}, "zip": {"strict"}}
+    for outer in ast.walk(tree):
+        for node in ast.iter_child_nodes(outer):
+            if called(node) in WALKS and not is_walked(node, outer):
+                yield "L23", node.lineno
+            if (called(node) in ("set", "frozenset") or isinstance(node, ast.Set)) and not is_set_used(outer):
+                yield "L24", node.lineno
+        if called(outer) in OWN_NAMES:
+            if not {word.arg for word in outer.keywords} <= keywords.get(called(outer), set()):
+                yield "L22", outer.lineno
+
+
+def faults_of_classes(trees):
+    """In all files together no name is a method of one class and a value of another."""
+    methods, values = set(), set()
+    for tree in trees:
+        for node in ast.walk(tree):
+            if isinstance(node, ast.ClassDef):
+                methods |= {part.name for part in node.body if isinstance(part, ast.FunctionDef)}
+            if isinstance(node, ast.Attribute) and isinstance(node.ctx, ast.Store):
+                values.add(node.attr)
+    return [("L18", name) for name in sorted(methods & values)]
+
+
 def faults(text):
     """The rules that a file's text breaks, with their lines."""
     tree = ast.parse(text)
     found = list(faults_of_text(text)) + list(faults_of_names(tree)) + list(faults_of_statements(tree))
+    found += list(faults_of_uses(tree)) + faults_of_classes([tree])
     for node in ast.walk(tree):
         found += faults_of_node(node, getattr(node, "lineno", 0))
     return found
@@ -164,6 +217,7 @@ def faults_between(texts):
     """The rules that files, told by their names, break by what they draw from one another."""
     trees = {file: ast.parse(text) for file, text in texts.items()}
     sources = {file: {source for source, name, line in drawn(tree)} for file, tree in trees.items()}
+    yield from faults_of_classes(trees.values())
     for file, tree in trees.items():
         for source, name, line in drawn(tree):
             if source not in trees or name not in top_names(trees[source]):
@@ -205,7 +259,9 @@ class Language(unittest.TestCase):
                       {"a": "from amongalike.b import f"},
                       {"a": "from amongalike.b import g\n" + one, "b": "from amongalike.a import f\ndef g():\n    f()"},
                       {"a": one, "b": "from amongalike.a import f\ndef g(f):\n    pass"},
-                      {"a": one, "b": "from amongalike.a import f\ndef g():\n    f = 1"}):
+                      {"a": one, "b": "from amongalike.a import f\ndef g():\n    f = 1"},
+                      {"a": "class A:\n    def size(self):\n        pass",
+                       "b": "class B:\n    def __init__(self):\n        self.size = 1"}):
             with self.subTest(texts=texts):
                 self.assertNotEqual(list(faults_between(texts)), [])
         self.assertEqual(list(faults_between({"a": one, "b": "from amongalike.a import f\ndef g():\n    f()"})), [])
@@ -216,7 +272,12 @@ class Language(unittest.TestCase):
                      "def f(min):\n    return min", "def f(x):\n    return x.title()", "# the type of it",
                      "def f(x):\n    'words'", "x = {1: 2 for y in (1, 2)}", "def f():\n    assert True",
                      "def _f():\n    pass", "x = '100%'", "x = 1" + " " * 120,
-                     "def f():\n" + "    pass\n" * 40, "x = [a for a in (1, 2) for b in (1, 2)]"):
+                     "def f():\n" + "    pass\n" * 40, "x = [a for a in (1, 2) for b in (1, 2)]",
+                     "def f():\n    x = range(3)", "def f(d):\n    return d.values()",
+                     "def f(d):\n    return len(set(d.values()))", "def f(x):\n    return set(x)",
+                     "def f(x):\n    for y in set(x):\n        pass", "def f(x):\n    return sorted(set(x), key=len)",
+                     "def f(x):\n    return list(sequence=x)", "def f(x):\n    x.title = 1\n    return x.swapcase()",
+                     "class A:\n    def size(self):\n        self.size = 1"):
             with self.subTest(text=text):
                 self.assertNotEqual(faults(text), [])
 

@@ -4,51 +4,8 @@ import unittest
 from amongalike.showing import all_ways, classes, fewest_alike, is_coarser, is_mixed, is_safe, loss, shown
 from samples import (
     ALL_ALIKE, EXAMPLE, FIVE, FOUR_ROWS, MANY_ROWS, NO_TWO_ALIKE, ONE_ROW, ONE_VALUE, SHOWN_TABLES, SMALLEST, THREE,
-    TWO, WIDEST, together, ways_of,
+    TWO, WIDEST, classes_told, first_way, last_way, loss_told, pairs_of_coarser, rows_told, ways_of,
 )
-
-
-def put_together(table, way, column, value):
-    """All values of a column with which a value is put together by a way."""
-    pairs = together(table[0][column][way[column]])
-    return [other for other in range(len(table[0][column][0])) if (value, other) in pairs]
-
-
-def rows_told(table, way):
-    return tuple(
-        tuple(min(put_together(table, way, column, value)) for column, value in enumerate(row))
-        for row in table[1])
-
-
-def classes_told(table, way):
-    rows = rows_told(table, way)
-    found = {tuple(other for other in range(len(rows)) if rows[other] == row) for row in rows}
-    return tuple(sorted(found))
-
-
-def loss_told(table, way):
-    lost = 0
-    for row in table[1]:
-        for column, value in enumerate(row):
-            lost += len(put_together(table, way, column, value)) - 1
-    return lost
-
-
-def first_way(table):
-    return (0,) * len(table[0])
-
-
-def last_way(table):
-    return tuple(len(ladder) - 1 for ladder in table[0])
-
-
-def pairs_of_coarser():
-    """Each sample with each two ways, the first of which is coarser."""
-    for table in SHOWN_TABLES:
-        for other in ways_of(table):
-            for one in ways_of(table):
-                if one != other and all(mine >= its for mine, its in zip(one, other)):
-                    yield table, one, other
 
 
 class Shown(unittest.TestCase):
